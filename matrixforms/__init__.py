@@ -1,0 +1,1 @@
+"""Formulas of matrices, decided for all matrices of all sizes."""
