@@ -16,6 +16,8 @@ LIBRARY = {
     "itertools": {"product", "combinations", "permutations"},
     "__future__": {"annotations"},
 }
+# Other tests run examples, for which Python puts the last result into _ there.
+PYTHON_NAMES = set(vars(builtins)) - {"_"}
 BUILTINS = set(
     "len range enumerate zip min max sum abs sorted reversed int str bool bytes list tuple dict set frozenset"
     " isinstance ord repr any all divmod iter next map super property staticmethod classmethod"
@@ -80,7 +82,7 @@ class LanguageTest(unittest.TestCase):
         for path in files:
             self.assertRegex(path, r"^(__init__|__main__|[a-z][a-z0-9_]*)\.py$")
             self.assertNotRegex(path, r"^(test|law_|conftest|site|usercustomize)")
-            self.assertNotIn(path[:-3], set(vars(builtins)) | set(sys.stdlib_module_names) - {"__main__"})
+            self.assertNotIn(path[:-3], PYTHON_NAMES | set(sys.stdlib_module_names) - {"__main__"})
 
     def test_characters_and_sizes(self):
         for path in package_files():
@@ -141,7 +143,7 @@ class LanguageTest(unittest.TestCase):
                     # Other names of methods and attributes are free of this rule.
                     inner = [arg.arg for arg in node.args.args] if isinstance(node, ast.FunctionDef) else []
                     for name in inner:
-                        self.assertNotIn(name, vars(builtins), path)
+                        self.assertNotIn(name, PYTHON_NAMES, path)
 
     def test_names_and_builtins(self):
         for path, tree in self.trees.items():
@@ -149,7 +151,7 @@ class LanguageTest(unittest.TestCase):
                 self.assertNotIn(name, NEVER, path)
                 self.assertTrue(not name.startswith("__") or name[2:-2] in SPECIAL | {"class", "name"}, (path, name))
             for node in ast.walk(tree):
-                if isinstance(node, ast.Name) and node.id in vars(builtins):
+                if isinstance(node, ast.Name) and node.id in PYTHON_NAMES:
                     self.assertIn(node.id, BUILTINS, path)
                     self.assertIsInstance(node.ctx, ast.Load, path)
 
