@@ -44,14 +44,12 @@ def multiplied(entries, others):
 
 
 def primitive(numbers):
-    """Return these integers without their common divisor."""
+    """Return these integers, which are not all 0, without their common divisor."""
     shared = 0
     for number in numbers:
         shared = gcd(shared, number)
         if shared == 1:
             return numbers
-    if shared == 0:
-        return numbers
     return [number // shared for number in numbers]
 
 
@@ -74,13 +72,16 @@ def with_pivot(rows, column):
     return [pivot_row if k == column else cleared(row, pivot_row, column) for k, row in enumerate(others)]
 
 
+def beside_unit(row, place):
+    """Return integers for a row and, behind it, for the row of the identity matrix with this index."""
+    tops, bottom = over_one_bottom(row)
+    return [*tops, *[bottom if index == place else 0 for index in range(len(row))]]
+
+
 def inverted(entries):
     """Return the entries of the inverse of a square matrix with these entries."""
     size = len(entries)
-    rows = []
-    for place, row in enumerate(entries):
-        tops, bottom = over_one_bottom(row)
-        rows.append([*tops, *[bottom if k == place else 0 for k in range(size)]])
+    rows = [beside_unit(row, place) for place, row in enumerate(entries)]
     for column in range(size):
         rows = with_pivot(rows, column)
     return tuple([tuple([Ratio(top, row[place]) for top in row[size:]]) for place, row in enumerate(rows)])

@@ -2,17 +2,8 @@
 
 from matrixforms.errors import TooRich
 from matrixforms.limits import MOST_RANK
-from matrixforms.machines import composed, product_machine
+from matrixforms.machines import composed
 from matrixforms.reducing import reduced
-
-
-def reduced_power(one, exponent):
-    """Return the machine of the form of a power, and its kept pairs."""
-    # The products on the way there may be richer than the power, so they are not checked.
-    found = reduced(one)
-    for _ in range(exponent - 1):
-        found = reduced(product_machine(found[0], one))
-    return found
 
 
 def formed(formula, known):
@@ -23,11 +14,8 @@ def formed(formula, known):
     """
     spelled = str(formula)
     if spelled not in known:
-        parts = [formed(part, known)[0] for part in formula.parts]
-        if formula.kind == "power":
-            found = reduced_power(parts[0], formula.exponent)
-        else:
-            found = reduced(composed(formula, parts))
+        # The products on the way to a power do not count, so a power is reduced as a whole.
+        found = reduced(composed(formula, [formed(part, known)[0] for part in formula.parts]))
         if len(found[1]) > MOST_RANK:
             raise TooRich(MOST_RANK)
         known[spelled] = found

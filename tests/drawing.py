@@ -57,7 +57,15 @@ class Drawing:
         return getattr(self, "make_" + self.random.choice(kinds))(rows, columns, levels - 1)
 
     def blocks(self, rows, columns, levels):
+        """Blocks of formulas with sides of one name."""
         return Blocks(tuple(tuple(self.formula((r,), (c,), levels) for c in columns) for r in rows))
+
+    def parted(self, side):
+        """The side, cut into several ones at drawn places."""
+        found = [side[:1]]
+        for name in side[1:]:
+            found = found + [(name,)] if self.random.random() < 0.5 else found[:-1] + [found[-1] + (name,)]
+        return found
 
     def make_leaf(self, rows, columns, levels):
         return self.leaf(rows, columns)
@@ -82,7 +90,8 @@ class Drawing:
         return self.formula(rows, columns, levels) ** self.random.randint(1, 3)
 
     def make_blocks(self, rows, columns, levels):
-        return self.blocks(rows, columns, levels)
+        lines, widths = self.parted(rows), self.parted(columns)
+        return Blocks(tuple(tuple(self.formula(line, width, levels) for width in widths) for line in lines))
 
     def make_corner(self, rows, columns, levels):
         more_rows, more_columns = self.side(), self.side()
@@ -121,12 +130,13 @@ def matrix(table):
 
 
 def drawn(count, levels, seed=0, letters=LETTERS, most=1000):
-    """So many drawn formulas with sides of one or two names, of at most this weight."""
+    """So many drawn formulas with sides of up to three names, of at most this weight."""
     drawing = Drawing(seed, letters)
     found = []
     while len(found) < count:
-        rows = drawing.side()
-        columns = rows if drawing.random.random() < 0.5 else drawing.side()
+        names = drawing.random.choice((1, 1, 2, 2, 3))
+        rows = drawing.side(names)
+        columns = rows if drawing.random.random() < 0.5 else drawing.side(names)
         try:
             one = drawing.formula(rows, columns, drawing.random.randint(1, levels))
         except TooLarge:

@@ -163,6 +163,9 @@ class EqualityTest(FormCase):
             (chain(MANY[:20]), chain(MANY[:20]) * nearly), (chain(MANY[:20]), chain(MANY[:19] + MANY[20:21])), (A + B ** 9 * nearly, A + B ** 9),
             (Blocks(((A, B),)), Blocks(((B, A),))), (A ** 5, A ** 4), (Eye("n"), Eye("n") * nearly), (A, Letter("A", "n", "n", about=2)),
             (A, Letter("A", "n", "n", about=1, symmetry="symmetric")), (X, Letter("X", "n", "q")), (B, Letter("C", "n", "n")),
+            # Only the moves, the starts, the ends or the middle differ.
+            ((Eye("n") - B).inverse() * B, (Eye("n") - B * 2).inverse() * B), (Blocks(((B,), (B * 2,))), Blocks(((B,), (B * 3,)))),
+            (Blocks(((B, B * 2),)), Blocks(((B, B * 3),))), (B + Eye("n"), B + Eye("n") * 2), (B, B + Eye("n")),
             (Zero("n", "p"), Zero("p", "n")), (Zero("n", "n"), Zero(("n", "n"), "n")), (A, A * Eye("n") + B * B * Ratio(1, 10 ** 39)),
         ):
             self.assertFalse(form(one) == form(other), (str(one), str(other)))
@@ -181,6 +184,12 @@ class EqualityTest(FormCase):
             self.assertIs(one == other, False)
             self.assertIs(one != other, True)
         self.assertIs(one == Stubborn(), False)
+
+    def test_all_that_two_forms_have_counts(self):
+        machine, kept = reduced(plain_machine(A * B))
+        self.assertTrue(form(A * B) == Form(machine, kept, (A, B)))
+        self.assertFalse(form(A * B) == Form(machine, kept[:1], (A, B)))
+        self.assertFalse(form(A * B) == Form(machine, kept, (A, Letter("B", "n", "n", about=5))))
 
     def test_letters_that_cancel(self):
         one = form(A * B - A * B + X * Y * 0 + K)

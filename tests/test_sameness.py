@@ -140,6 +140,10 @@ class SameTest(SamenessCase):
         self.assertIs(same(A + B - B, A), True)
         self.assertIs(same(A, A + B * 0), True)
         self.assertIs(same(A, B), False)
+        # Only the moves, the starts or the ends of their forms differ.
+        self.assertIs(same((Eye("n") - B).inverse() * B, (Eye("n") - B * 2).inverse() * B), False)
+        self.assertIs(same(Blocks(((B,), (B * 2,))), Blocks(((B,), (B * 3,)))), False)
+        self.assertIs(same(Blocks(((B, B * 2),)), Blocks(((B, B * 3),))), False)
         self.assertIs(same(B - B, C - C), True)
 
     def test_at_the_limits(self):
@@ -268,6 +272,11 @@ class PartingTest(SamenessCase):
             self.assertIs(one != other, True)
         self.assertIs(one == Stubborn(), False)
         self.assertTrue(one)
+        parts = (one.word, one.divisor, one.sizes, one.matrices, (one.left, one.right))
+        self.assertTrue(Parting(*parts) == one)
+        changes = ((), 2, {"n": 4}, {"A": one.matrices["A"]}, (one.right, one.right), (one.left, one.left))
+        for index, change in zip((0, 1, 2, 3, 4, 4), changes):
+            self.assertFalse(Parting(*parts[:index], change, *parts[index + 1:]) == one)
 
 
 class QuestionsTest(SamenessCase):
