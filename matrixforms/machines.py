@@ -174,9 +174,9 @@ def blocks_machine(table):
             ends = all_sums(ends, all_shifted(one.ends, count, left))
             left += len(one.sides[1])
         top += len(line[0].sides[0])
-    rows = tuple([name for line in table for name in line[0].sides[0]])
-    columns = tuple([name for one in table[0] for name in one.sides[1]])
-    core = stacked([[one.core for one in line] for line in table])
+    rows = tuple([name for parts in table for name in parts[0].sides[0]])
+    columns = tuple([name for part in table[0] for name in part.sides[1]])
+    core = stacked([[part.core for part in parts] for parts in table])
     return Machine((rows, columns), core, places, starts, moves, ends)
 
 
