@@ -1,8 +1,9 @@
 """Forms: equal exactly for formulas that are the same."""
 
-from matrixforms.errors import InvalidSize, UnknownName
+from matrixforms.errors import InvalidSize
 from matrixforms.formulas import check_formula
 from matrixforms.machines import coefficient_of, equal_machines, plain_machine, symbols_of
+from matrixforms.meeting import letter_called
 from matrixforms.ranks import formed
 from matrixforms.ratios import is_whole
 from matrixforms.readers import Reader
@@ -108,7 +109,6 @@ def degree(formula):
 def matters(formula, name):
     """Tell whether a word with a symbol of this letter has a coefficient other than 0."""
     check_formula(formula)
-    if not (isinstance(name, str) and name in [letter.name for letter in formula.letters]):
-        raise UnknownName(name)
+    letter_called(formula, name)
     machine = formed(formula, {})[0]
     return name in [symbol[0] for symbol in symbols_of(machine)]

@@ -1,6 +1,6 @@
 """What holds where several formulas meet in another one, or in one call."""
 
-from matrixforms.errors import Clash, Mismatch, TooLarge
+from matrixforms.errors import Clash, Mismatch, TooLarge, UnknownName
 from matrixforms.limits import MOST_LEVELS, MOST_SIDE, MOST_WEIGHT
 
 
@@ -22,6 +22,14 @@ def joined_letters(formulas):
 def joined_sizes(formulas):
     """Return the ascending tuple of the size names of these formulas."""
     return tuple(sorted(set([name for formula in formulas for name in formula.sizes])))
+
+
+def letter_called(formula, name):
+    """Return the letter of a formula with this name; UnknownName if it has none."""
+    for letter in formula.letters:
+        if isinstance(name, str) and letter.name == name:
+            return letter
+    raise UnknownName(name)
 
 
 def sides_of(formula):

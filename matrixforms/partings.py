@@ -3,20 +3,14 @@
 from matrixforms.machines import difference_machine
 from matrixforms.matrices import Matrix
 from matrixforms.ratios import Ratio
-from matrixforms.reducing import reduced
+from matrixforms.searching import first_word
 
 
 def first_unlike_word(one, other):
     """Return the first word whose coefficients differ in two machines, None if there is none."""
     if one.core != other.core:
         return ()
-    machine, kept = reduced(difference_machine(one, other))
-    # The first one is a kept word and one symbol more: else its last row were mixed of rows of words before it.
-    found = [
-        (*pair[0], symbol) for symbol, table in machine.ends.items() for place, pair in enumerate(kept)
-        if place in table
-    ]
-    return min(found, key=lambda word: (len(word), word)) if found else None
+    return first_word(difference_machine(one, other))
 
 
 class Trail:

@@ -88,6 +88,19 @@ def made(step, parts, known):
     return changed(step, parts[0])
 
 
+def step_of(formula):
+    """Return the step that makes a formula of its parts."""
+    if formula.kind == "scaled":
+        return ("scaled", formula.number)
+    if formula.kind == "power":
+        return ("power", formula.exponent)
+    if formula.kind == "corner":
+        return ("corner", formula.row, formula.column)
+    if formula.kind == "blocks":
+        return ("blocks", tuple([len(line) for line in formula.table]))
+    return (formula.kind,)
+
+
 def formula_of(steps, known):
     """Return the formula that these steps make, with what is known under the letter names in them."""
     waiting = []

@@ -65,6 +65,10 @@ def inverse(one):
     return [row[size:] for row in rows]
 
 
+def trace(one):
+    return sum((one[k][k] for k in range(len(one))), Fraction(0))
+
+
 def rank(rows):
     """The rank of a list of rows."""
     rows = [list(row) for row in rows]
@@ -115,10 +119,10 @@ def tabled(formula, parts):
 
 # Values (point 9): sizes as a dict, matrices as a dict of tables.
 
-def value(formula, sizes, matrices):
+def value(formula, sizes, matrices, invert=inverse):
     """The value as a table; NoInverse if there is none."""
     kind = formula.kind
-    parts = [value(part, sizes, matrices) for part in formula.parts]
+    parts = [value(part, sizes, matrices, invert) for part in formula.parts]
     if kind == "letter":
         return matrices[formula.name]
     if kind == "eye":
@@ -136,7 +140,7 @@ def value(formula, sizes, matrices):
     if kind == "transposed":
         return flipped(parts[0])
     if kind == "inverse":
-        return inverse(parts[0])
+        return invert(parts[0])
     if kind == "power":
         found = parts[0]
         for _ in range(formula.exponent - 1):
@@ -306,7 +310,8 @@ def plain_sum(a, b, sign, every):
 
 
 def row_times(row, table, width):
-    return [sum((x * table[k][j] for k, x in enumerate(row)), Fraction(0)) for j in range(width)]
+    used = [(x, table[k]) for k, x in enumerate(row) if x]
+    return [sum((x * line[j] for x, line in used if line[j]), Fraction(0)) for j in range(width)]
 
 
 def plain_product(a, b, every):
