@@ -98,6 +98,14 @@ def difference_machine(one, other):
     return sum_machine(one, scaled_machine(Ratio(-1), other))
 
 
+def sum_of_multiples(machines, numbers):
+    """Return the machine of the sum of numbers times formulas, made from the left."""
+    found = scaled_machine(numbers[0], machines[0])
+    for number, machine in zip(numbers[1:], machines[1:]):
+        found = sum_machine(found, scaled_machine(number, machine))
+    return found
+
+
 def product_machine(one, other):
     """Return the machine of the product of two formulas."""
     count = len(one.places)

@@ -73,6 +73,80 @@ EXAMPLES = {
 >>> [list(map(str, combination((Eye("n") + a) * (Eye("n") - a), a * a, Eye("n"), a))), combination(a, b)]
 [['-1', '1', '0'], None]
 ''',
+    "changes": r'''
+>>> from matrixforms.changes import derivative, moved, substituted
+>>> from matrixforms.formulas import Letter
+>>> from matrixforms.sameness import same
+>>> a, h = Letter("A", "n", "n", about=1), Letter("H", "n", "n")
+>>> f = a.inverse() * a.transposed
+>>> slope = a.inverse() * h.transposed - a.inverse() * h * f
+>>> [same(derivative(f, "A", "H"), slope), str(substituted(f, {"A": a + h})), str(moved(f, {"A": -2}).middle)]
+[True, "(inv((A + H)) * (A + H)')", '1']
+''',
+    "schur": r'''
+>>> from matrixforms.formulas import Blocks, Inverse, Letter
+>>> from matrixforms.sameness import same
+>>> from matrixforms.schur import eliminated, part, schur
+>>> a, b = Letter("A", "n", "n", about=1), Letter("B", "n", "p")
+>>> c, d = Letter("C", "p", "n"), Letter("D", "p", "p", about=2)
+>>> f = Blocks(((a, b), (c, d)))
+>>> [same(schur(f, 1), d - c * a.inverse() * b), same(eliminated(f, 1), Inverse(f)), same(part(f ** 2, (1,), (0,)), c * a + d * c)]
+[True, True, True]
+''',
+    "traces": r'''
+>>> from matrixforms.formulas import Letter
+>>> from matrixforms.sameness import same
+>>> from matrixforms.traces import equal_traces, gradient, trace_parting, trace_sum
+>>> x, a = Letter("X", "n", "p"), Letter("A", "n", "n", about=1)
+>>> f = x.transposed * a * x
+>>> [equal_traces(f, a.transposed * x * x.transposed), equal_traces(f, f + f), same(gradient(f, "X"), (a + a.transposed) * x), same(gradient(a.inverse(), "A"), -(a.transposed.inverse() ** 2))]
+[True, False, True, True]
+>>> [str(trace_parting(a, a * 2)), trace_parting(f, f + f)[0], str(trace_sum(f, (("X", False), ("X", True))))]
+["('n', Ratio(1, 1), Ratio(2, 1))", (('X', False), ('X', True)), '2']
+''',
+    "solving": r'''
+>>> from matrixforms.formulas import Letter
+>>> from matrixforms.ratios import Ratio
+>>> from matrixforms.sameness import same
+>>> from matrixforms.solving import solve
+>>> a, b, x = Letter("A", "n", "n", about=2), Letter("B", "n", "p"), Letter("X", "n", "p")
+>>> found = solve(a * x * 3 - b, "X")
+>>> [same(found.answer, a.inverse() * b * Ratio(1, 3)), same(found.before * 2, a), str(found.behind.middle)]
+[True, True, '6']
+''',
+    "sheets": r'''
+>>> from matrixforms.sheets import Sheet
+>>> sheet = Sheet()
+>>> sheet.do_all(("letter", "A", "n", "n", "symmetric", 1), ("letter", "X", "n", "p", "plain", 0))
+>>> sheet.do(("define", "G", "X' * inv(A) * X"))
+>>> sheet.do_all(("define", "H", "inv(eye(p) + G)"), ("claim", "H", "H'"), ("claim", "H * G", "eye(p) - H"))
+>>> [str(sheet["H"]), sheet.definitions, sheet.claims, len(sheet.history), "A" in sheet]
+["inv((eye(p) + ((X' * inv(A)) * X)))", ('G', 'H'), (('H', "H'"), ('H * G', 'eye(p) - H')), 6, True]
+>>> with sheet.trial() as held:
+...     held.do(("lift", 0))
+...     held.undo()
+...
+>>> len(sheet.claims)
+2
+''',
+    "certificates": r'''
+>>> from matrixforms.certificates import certify, certify_rank
+>>> from matrixforms.checker import accepts
+>>> from matrixforms.formulas import Letter
+>>> a, b = Letter("A", "n", "n"), Letter("B", "n", "n")
+>>> claim, certificate = certify((a + b) * a, a * a + b * a)
+>>> unlike = ("different", claim[1], "(A * B)", "(B * A)")
+>>> matrices = (((0, 1), (1, 1)), ((0, 1), (0, 1))), (((0, 1), (0, 1)), ((1, 1), (0, 1)))
+>>> [claim, accepts(claim, certificate), accepts(unlike, certificate), accepts(unlike, ((("n", 2),), matrices)), certify_rank(a * b)[0][3]]
+[('same', (('A', 'n', 'n', 'plain', (0, 1)), ('B', 'n', 'n', 'plain', (0, 1))), '((A + B) * A)', '((A * A) + (B * A))'), True, False, True, 2]
+''',
+    "console": r'''
+>>> from matrixforms.console import Console
+>>> console = Console()
+>>> lines = ["letter A n n", "letter B n n about 1", "let C = A * B", "test C = B * A", "test inv(B) * B = eye(n)", "rank C - A", "degree C", "claim C * inv(B) = A", "claims", "show C", "undo", "history", "degree inv(B)", "matters A C - A * B"]
+>>> list(map(console.say, lines))
+['ok', 'ok', 'ok', 'unlike n=3 | A: 0 1 0; 0 0 0; 0 0 0 | B: 1 0 0; 0 1 1; 0 0 1', 'same', '2', '2', 'ok', 'C * inv(B) = A', '(A * B)', 'ok', '3', 'endless', 'no']
+''',
 }
 
 

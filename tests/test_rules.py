@@ -169,7 +169,8 @@ class RulesTest(unittest.TestCase):
                 if isinstance(node, ast.Raise) and node.exc is not None:
                     self.assertIsInstance(node.exc, ast.Call, path)
                 if isinstance(node, ast.ExceptHandler):
-                    self.assertIn(node.type.id, self.classes, path)
+                    for caught in node.type.elts if isinstance(node.type, ast.Tuple) else [node.type]:
+                        self.assertIn(caught.id, self.classes, path)
                 if isinstance(node, ast.Compare) and isinstance(node.ops[0], (ast.Is, ast.IsNot)):
                     self.assertIsInstance(node.comparators[0], ast.Constant, path)
                 if isinstance(node, ast.Assign) and isinstance(node.value, ast.Call):
@@ -186,6 +187,39 @@ class RulesTest(unittest.TestCase):
             self.assertIn(node.args[0].func.id, ("list", "tuple", "sorted", "range"), path)
         if name in ("gcd", "lcm"):
             self.assertFalse(node.keywords or any(isinstance(one, ast.Starred) for one in node.args), path)
+
+    def test_context_managers(self):
+        for path, node, name in self.methods["__exit__"]:
+            self.assertIn("__enter__", [inner.name for inner in self.classes[name][1].body if isinstance(inner, ast.FunctionDef)])
+            self.assertEqual([one.arg for one in node.args.args], ["self", "kind", "value", "trace"], path)
+            for inner in ast.walk(node):
+                # Only attributes are assigned, to attributes, behind no other test than that of the kind.
+                if isinstance(inner, ast.Assign):
+                    self.assertIsInstance(inner.targets[0], ast.Attribute, path)
+                    self.assertIsInstance(inner.value, ast.Attribute, path)
+                elif isinstance(inner, ast.If):
+                    self.assertIn(ast.unparse(inner.test), ("kind is None", "kind is not None"), path)
+                elif isinstance(inner, ast.stmt):
+                    self.assertIsInstance(inner, ast.FunctionDef, path)
+                if isinstance(inner, ast.Name):
+                    self.assertIn(inner.id, ("self", "kind"), path)
+        for path, node in self.all_functions():
+            for inner in ast.walk(node):
+                if isinstance(inner, ast.With):
+                    for item in inner.items:
+                        self.assertIsInstance(item.context_expr, ast.Call, path)
+                        self.assertIsInstance(item.optional_vars, (ast.Name, type(None)), path)
+
+    def test_tables_at_module_level_are_only_read(self):
+        for path, tree in self.trees.items():
+            tables = {node.targets[0].id for node in tree.body if isinstance(node, ast.Assign) and isinstance(node.value, (ast.Dict, ast.List))}
+            parents = {child: node for node in ast.walk(tree) for child in ast.iter_child_nodes(node)}
+            for node in ast.walk(tree):
+                if isinstance(node, ast.Name) and node.id in tables and isinstance(node.ctx, ast.Load):
+                    above = parents[node]
+                    self.assertIsInstance(above, (ast.Subscript, ast.Compare, ast.Attribute), path)
+                    if isinstance(above, ast.Attribute):
+                        self.assertEqual(above.attr, "get", path)
 
     def test_returns_of_special_methods(self):
         for name in ("__str__", "__repr__", "__len__"):
