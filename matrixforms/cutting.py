@@ -10,8 +10,6 @@ from matrixforms.formulas import Blocks, Corner, Eye, Zero
 def chosen(side, span):
     """Return the formula that chooses these rows of a formula with this side: it stands before the formula."""
     start, stop = span
-    if stop - start == len(side):
-        return Eye(side)
     names = side[start:stop]
     line = [Zero(names, side[:start])] if start else []
     line.append(Eye(names))

@@ -111,8 +111,8 @@ class Sheet:
     def __iter__(self):
         raise TypeError("a sheet is not iterated over")
 
-    def __contains__(self, name):
-        return isinstance(name, str) and name in self._step.page.made
+    def __contains__(self, x):
+        return isinstance(x, str) and x in self._step.page.made
 
     def __len__(self):
         return len(self._step.page.worded)

@@ -172,7 +172,9 @@ class SameTest(CheckedCase):
             self.assert_all(False, [(unlike, rows)])
 
     def test_sides(self):
-        self.assert_all(False, [(("same", (TOLD_X,), "(0 * X)", "(0 * X')"), ()), (("same", (), "zero(n; n)", "zero(n; p)"), ()), (("same", (), "eye(n, p)", "eye(p, n)"), ())])
+        self.assert_all(False, [(("same", (TOLD_X,), "(0 * X)", "(0 * X')"), ()), (("same", (), "zero(n; n)", "zero(n; p)"), ()), (("same", (), "zero(n; n)", "zero(p; n)"), ()), (("same", (), "eye(n, p)", "eye(p, n)"), ())])
+        self.assert_all(False, [(("relations", (), ("zero(n; n)", "zero(p; n)"), ((ONE, NIL), (NIL, ONE))), (((), ()), ()))])
+        self.assert_all(True, [(("relations", (), ("zero(n; n)", "zero(n; n)"), ((ONE, NIL), (NIL, ONE))), (((), ()), ()))])
         self.assert_all(True, [(("same", (), "zero(n; n)", "(0 * eye(n))"), ())])
 
     def test_different_by_hand(self):
@@ -241,6 +243,14 @@ class SameTest(CheckedCase):
         self.assert_all(True, [(outside, (((NIL, ONE), (ONE, NIL)), ((ONE, (-1, 1)),), (((), 0),), (((b,), 0),)))])
         self.assert_all(False, [(outside, (((NIL, ONE),), ((ONE, (-1, 1)),), (((), 0),), (((b,), 0),)))])
 
+        more = ("rank", (TOLD_B,), "(((0 * B) + B) + (0 * B))", 1)
+        for blind, expected in ((((NIL, ONE, (-1, 1)),), False), (((ONE, (-1, 1), NIL),), True)):
+            self.assert_all(expected, [(more, (((NIL, ONE, NIL), (ONE, NIL, NIL)), blind, (((), 0),), (((b,), 0),)))])
+        # Each end of a row of the state for A is 0, but it moves to the state for B.
+        chained = ("rank", (("A", "n", "n", "plain", NIL), TOLD_B), "(A * B)", 1)
+        self.assert_all(False, [(chained, (full, ((ONE, NIL),), (((a,), 0),), (((b,), 0),)))])
+        self.assert_all(True, [((*chained[:3], 2), (full, (), (((), 0), ((a,), 0)), (((b,), 0), ((a, b), 0))))])
+
     def test_rank_0(self):
         for claim in (("rank", (), "eye(n)", 0), ("rank", (), "zero(n; p)", 0)):
             self.assert_all(True, [(claim, ((), (), (), ())), (claim, (((),), (), (), ())), (claim, (((), ()), ((),), (), ()))])
@@ -293,7 +303,7 @@ class SameTest(CheckedCase):
             (("relations", letters, texts, ((TWO, (4, 1), (-2, 1)),)), (spans, places)), (("relations", letters, texts, (((-1, 1), (-2, 1), ONE),)), (spans, places)), (("relations", letters, texts, ((ONE, TWO, (-2, 2)),)), (spans, places)),
             (("relations", letters, texts, ()), ((), (((b,), 0, 0), ((a,), 0, 0), ((), 0, 0)))), (("relations", letters, texts, ((NIL, NIL, NIL),)), (spans, places)), (("relations", letters, texts, basis + basis), (spans * 2, places[:1])),
             (("relations", letters, list(texts), basis), (spans, places)), (("relations", letters, texts, list(basis)), (spans, places)), (("relations", letters, texts, (list(basis[0]),)), (spans, places)), (("relations", letters, texts, (basis[0][:2],)), (spans, places)),
-            (("relations", letters, (), ()), ((), ())), (("relations", (TOLD_A, TOLD_B, TOLD_K), texts, basis), (spans, places)), (("relations", letters, "A", basis), (spans, places)), (("relations", letters, ("A", "B", None), basis), (spans, places)),
+            (("relations", letters, (), ()), ((), ())), (("relations", (), (), ()), ((), ())), (("relations", (), ((),), ()), ((), ())), (("relations", (TOLD_A, TOLD_B, TOLD_K), texts, basis), (spans, places)), (("relations", letters, "A", basis), (spans, places)), (("relations", letters, ("A", "B", None), basis), (spans, places)),
         ])
 
     def test_several_pivots(self):

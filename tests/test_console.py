@@ -96,8 +96,8 @@ class LinesTest(ConsoleCase):
         )
         self.assertEqual(state(console), before)
         self.assert_refused(
-            console, ("test A = X", Mismatch, (("n",), ("n",)), (("n",), ("p",))), ("test A =  X +", TextError, 4), ("test A + = Q", TextError, 3), ("test Q = R", UnknownName, "Q"), ("test A = R * Q", UnknownName, "R"), ("test inv(B) = A ** 0", Unanchored, "B"),
-            ("rank Q", UnknownName, "Q"), ("rank ", TextError, 0), ("rank A = B", TextError, 2), ("degree inv(K)", Unanchored, "K"), ("degree X * X", Mismatch, ("p",), ("n",)), ("matters Q A", UnknownName, "Q"), ("matters A B", UnknownName, "A"), ("matters G G", UnknownName, "G"),
+            console, ("test A = X", Mismatch, (("n",), ("n",)), (("n",), ("p",))), ("test A =  X +", TextError, 4), ("test A + = Q", TextError, 3), ("test Q = R", UnknownName, "Q"), ("test A = R * Q", UnknownName, "R"), ("test inv(B) = A ** 0", Unanchored, "B"), ("test inv(B) = Q", UnknownName, "Q"),
+            ("test X * X = inv(Q) * (R + S)", UnknownName, "Q"), ("rank inv(B) * Q", UnknownName, "Q"), ("rank Q", UnknownName, "Q"), ("rank ", TextError, 0), ("rank A = B", TextError, 2), ("degree inv(K)", Unanchored, "K"), ("degree X * X", Mismatch, ("p",), ("n",)), ("matters Q A", UnknownName, "Q"), ("matters A B", UnknownName, "A"), ("matters G G", UnknownName, "G"),
             ("matters Q A +", TextError, 3), ("matters Q R", UnknownName, "R"), ("matters A ", TextError, 0), ("matters A B C", TextError, 2),
         )
 

@@ -135,6 +135,12 @@ class PartTest(CheckedCase):
         self.assert_error(TooLarge, (60,), part, heavy, (0,), (0,))
 
 
+def three_of(one):
+    """The blocks of all names of a formula."""
+    count = len(one.rows)
+    return Blocks(tuple(tuple(one[i, j] for j in range(count)) for i in range(count)))
+
+
 class SchurTest(CheckedCase):
     def test_by_hand(self):
         self.assertIs(same(schur(F, 1), D - C * A.inverse() * B), True)
@@ -198,14 +204,14 @@ class SchurTest(CheckedCase):
 
     def test_blocks_of_several_names(self):
         drawing, done = Drawing(125), 0
-        for _ in range(60):
+        for _ in range(30):
             side = drawing.side(3) + drawing.side(2)
             rows, columns = drawing.parted(side), drawing.parted(side)
             one = Blocks(tuple(tuple(drawing.formula(line, width, 2) for width in columns) for line in rows)) + Eye(side) * 7
             for inner in (one, one.transposed, Blocks(((one,),))):
                 for count in range(1, len(side)):
                     done += self.assert_both(drawing, inner, count)
-        self.assertGreater(done, 150)
+        self.assertGreater(done, 80)
 
     def test_sameness_of_the_inverse(self):
         done = 0
@@ -241,7 +247,30 @@ class SchurTest(CheckedCase):
         with self.assertRaises(Unanchored):
             eliminated(flat, 1)
 
+    def test_parts_of_blocks_are_formulas_of_the_table(self):
+        e = Blocks(((B, B), (D, D)))
+        wide = Blocks(((A, Blocks(((B, B),))), (Blocks(((C,), (C,))), Blocks(((D, D), (D, D * 7))))))
+        three = Blocks(((A, B, B), (C, D, D * 2), (C, D * 3, D)))
+        for one, count in ((F, 1), (three, 1), (three, 2), (wide, 1)):
+            for function in (schur, eliminated):
+                inside = all_in(function(one, count))
+                self.assertFalse([inner for inner in inside if inner == one or inner.kind == "corner"], str(one))
+        self.assertEqual(str(schur(F, 1)), "(D - ((C * inv(A)) * B))")
+        self.assertEqual(str(schur(wide, 1)), str(wide.parts[3] - wide.parts[2] * A.inverse() * wide.parts[1]))
+        self.assertEqual(part(F, (1,), (0, 1)), Blocks(((C, D),)))
+        self.assertEqual(part(three, (2,), (1,)), Blocks(((D * 3,),)))
+        # Where the head ends within a formula of the table, parts of the whole are taken.
+        self.assertIs(same(schur(wide, 2), schur(three_of(wide), 2)), True)
+        self.assertEqual(part(e, (0,), (1,)), Blocks(((B,),)))
+
     def test_unanchored_comes_before_too_large(self):
+        for table in (((A, B), (C, D)), ((A * 0, B), (C, D)), ((A, A), (A, A))):
+            deep = Blocks(table)
+            while deep.levels < 60:
+                deep = deep.transposed
+            anchored = table[0][0] == A
+            self.assert_error(TooLarge, (60,), schur, deep, 1) if anchored else self.assertRaises(Unanchored, schur, deep, 1)
+            self.assert_error(TooLarge, (60,), eliminated, deep, 1) if anchored and table[0][1] == B else self.assertRaises(Unanchored, eliminated, deep, 1)
         heavy = ((Blocks(((A, B), (C, D))) ** 9) ** 9) * Zero(("n", "p"), ("n", "p"))
         for function in (schur, eliminated):
             with self.assertRaises(Unanchored):

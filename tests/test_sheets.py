@@ -231,6 +231,14 @@ class ClaimsTest(SheetCase):
         sheet.do(("lift", 1))
         self.assert_refused(sheet, Broken, (1, parting(sheet_formula(sheet, "blocks(K, B)"), sheet_formula(sheet, "blocks(A, B)"))), "define", "G", "K")
 
+    def test_claims_of_changed_definitions_alone(self):
+        sheet = sheet_with(("define", "G", "S"), ("define", "H", "G * G"), ("claim", "G", "G'"), ("claim", "H", "G ** 2"), ("claim", "H'", "H"))
+        self.assert_refused(sheet, Broken, (0, parting(sheet["B"], sheet["B"].transposed)), "define", "G", "B")
+        self.assert_refused(sheet, Broken, (1, parting(sheet["B"], sheet["S"] ** 2)), "define", "H", "B")
+        sheet.do_all(("lift", 0), ("lift", 0))
+        self.assert_refused(sheet, Broken, (0, parting((sheet["B"] * sheet["B"]).transposed, sheet["B"] * sheet["B"])), "define", "G", "B")
+        sheet.do(("define", "G", "K"))
+
     def test_errors_of_same(self):
         sheet = sheet_with(*[("letter", letter.name, "n", "n", "plain", 0) for letter in MANY[:25]])
         rich = " * ".join(letter.name for letter in MANY[:25])

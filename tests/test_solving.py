@@ -183,6 +183,8 @@ class SolvableTest(SolvingCase):
         for inner, expected in ((found.before, other.before), (found.behind, other.behind), (found.remainder, other.remainder), (found.answer, other.answer)):
             self.assertEqual(inner, expected)
         self.assertTrue(found)
+        self.assertIs(found == found, True)
+        self.assertIs(found == other, False)
         for given in NO_INTEGERS:
             self.assertIs(found == given, False)
 
