@@ -83,7 +83,7 @@ def formula_understood(text, letters):
 def formulas_understood(texts, letters):
     """Return the tuple of the formulas with these texts, which have equal sides and in which all letters stand."""
     formulas = all_or_none([formula_understood(text, letters) for text in texts])
-    if formulas is None or not formulas:
+    if not formulas:
         return None
     if not all([one.rows == formulas[0].rows and one.columns == formulas[0].columns for one in formulas]):
         return None
